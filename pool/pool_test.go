@@ -950,8 +950,8 @@ func TestKeepsWhatIsHandedIn(t *testing.T) {
 		kept := wholes(own)
 		handed := own[:len(l)]
 		for i, o := range append(ops(), pool.Op{Kind: 7}, add(tx(2, 0, 9)), advance(3, 9), advance(9, 0), remove(9, 9), pool.Op{Data: "?"}) {
-			first := answers(handed, o)
-			if again := answers(handed, o); again != first {
+			first := answers(t, handed, o)
+			if again := answers(t, handed, o); again != first {
 				t.Errorf("op %d: %s; again: %s", i, first, again)
 			}
 			if !same(wholes(own), kept) {
@@ -971,16 +971,15 @@ func wholes(l []api.Account) []api.Account {
 	return out
 }
 
-// answers is what Do tells of l; its lists are written over one by one behind that, and what is then another one is told, too.
-func answers(l []api.Account, o pool.Op) string {
+// answers is what Do tells of l; its lists are written over one by one behind that, and none of the others may be another one then.
+func answers(t *testing.T, l []api.Account, o pool.Op) string {
+	t.Helper()
 	after, r, became := pool.Do(config(0, 20, 4, 10), l, o)
 	out := fmt.Sprint(after, r, became, pool.Check(config(0, 20, 4, 10), l), pool.Slots(l))
-	wipe(r.Txs)
-	out += fmt.Sprint(after, became)
+	apart(t, r.Txs, func() string { return fmt.Sprint(after, became) })
 	for i := range after {
-		wipe(after[i].Txs)
+		apart(t, after[i].Txs, func() string { return fmt.Sprint(after[i+1:], became) })
 	}
-	out += fmt.Sprint(became)
 	after, became = after[:cap(after)], became[:cap(became)]
 	for i := range after {
 		after[i] = account(-99, -99)
@@ -989,6 +988,16 @@ func answers(l []api.Account, o pool.Op) string {
 		became[i] = api.Event{Kind: -99}
 	}
 	return out
+}
+
+// apart writes over a list, and holds that the rest stays.
+func apart(t *testing.T, l []api.Tx, rest func() string) {
+	t.Helper()
+	was := rest()
+	wipe(l)
+	if now := rest(); now != was {
+		t.Fatalf("a list is shared: %s; was %s", now, was)
+	}
 }
 
 // wipe writes over all that a list has room for.
